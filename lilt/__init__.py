@@ -1,0 +1,1 @@
+"""Lilt: verse said and weighed by told rules."""
