@@ -29,12 +29,16 @@ def all_steps(metre):
     return steps
 
 
+def walked_by(steps, option, ends, states):
+    """Each step by an option, tuples (state, state reached): one that isn't said leaves each of the states."""
+    return [(state, state) for state in states] if option is None else steps[(option[1], ends)]
+
+
 def counts_ahead(steps, options, ends, behind):
     """How many ways lead from each state to the metre's end, one syllable ahead of where behind tells it."""
     counts = {}
     for option in options:
-        walked = [(state, state) for state in behind] if option is None else steps[(option[1], ends)]
-        for state, reached in walked:
+        for state, reached in walked_by(steps, option, ends, behind):
             if reached in behind:
                 counts[state] = counts.get(state, 0) + behind[reached]
     return counts
