@@ -2,7 +2,11 @@
 
 import itertools
 
+from lilt.desk import Desk
+from lilt.errors import NoForm
+from lilt.forms import plain_rows, read_form, times_of
 from lilt.metres import moves_of
+from lilt.rhymes import rhymes
 from lilt.tables import table_of
 from lilt.tongues import Tongue
 from lilt.words import options_of
@@ -133,6 +137,99 @@ def said_rows(most):
     return [list(row) for many in range(most + 1) for row in itertools.product(marks, repeat=many)]
 
 
+def rows_in(metre):
+    """All said rows of a metre [28], feet by feet: a dict of how many lists of feet each has, rows being tuples."""
+    rows = {}
+    for feet in itertools.product(*[range(len(patterns)) for patterns, cut in metre]):
+        signs = []
+        for (patterns, cut), number in zip(metre, feet):
+            signs.extend((sign, False) for sign in patterns[number][:-1])
+            signs.append((patterns[number][-1], cut))
+        signs[-1] = (signs[-1][0], True)
+        places = [[(mark, ends) for mark in ("u-" if sign == "x" else sign) for ends in (False, True)
+                   if ends or not must] for sign, must in signs]
+        for row in itertools.product(*places):
+            rows[row] = rows.get(row, 0) + 1
+    return rows
+
+
+def first_in(rows):
+    """The first of said rows in their order [28], or None where there are none."""
+    key = min(((len(row), [("u-".index(mark), ends) for mark, ends in row]) for row in rows), default=None)
+    return None if key is None else [("u-"[mark], ends) for mark, ends in key[1]]
+
+
+def first_beyond(one, other):
+    """The first said row that is of the one metre and not of the other, all gone through, or None [28]."""
+    return first_in(set(rows_in(one)) - set(rows_in(other)))
+
+
+def first_twice(metre):
+    """The first said row that has two lists of feet, all gone through, or None [28]."""
+    return first_in([row for row, many in rows_in(metre).items() if many > 1])
+
+
+def plain_of(form, many):
+    """The plain rows of the times that have so many, or None [27]."""
+    found = [plain_rows(form, times) for times in times_of(form) if len(plain_rows(form, times)) == many]
+    return found[0] if found else None
+
+
+def poem_faults(tongue, metres, form, poem):
+    """The faults of a poem whose names and words are all known, point by point [27]."""
+    plain = plain_of(form, len(poem))
+    if plain is None:
+        return [("rows", len(poem))]
+    faults = []
+    for k, (metre, bond, back) in enumerate(plain):
+        if not has_reading(table_of(tongue, poem[k]), metres[metre]):
+            faults.append(("metre", k))
+        for j in range(k):
+            if bond is not None and plain[j][1] == bond:
+                if not poem[k] or not poem[j] or not rhymes(tongue, poem[k][-1], poem[j][-1]):
+                    faults.append(("rhyme", k, j))
+                    break
+        if back is not None and poem[k] != poem[back]:
+            faults.append(("again", k, back))
+    return faults
+
+
+def same_rows(plain, k, j):
+    """Whether two plain rows are the same [29]."""
+    one, other = plain[k][2], plain[j][2]
+    return one == j or other == k or (one is not None and one == other)
+
+
+def bound_rows(plain, k, j):
+    """Whether two plain rows are bound [29]."""
+    first = [number for number in range(len(plain)) if number == k or same_rows(plain, number, k)]
+    second = [number for number in range(len(plain)) if number == j or same_rows(plain, number, j)]
+    bonds = [(plain[one][1], plain[other][1]) for one in first for other in second]
+    return same_rows(plain, k, j) or any(one is not None and one == other for one, other in bonds)
+
+
+def form_faults(one, other, metres):
+    """All faults of the one form by the other whose names are all known, point by point [29]."""
+    faults = []
+    for times in times_of(one):
+        mine = plain_rows(one, times)
+        n = len(mine)
+        theirs = plain_of(other, n)
+        if theirs is None:
+            faults.append(("rows", n))
+            continue
+        for k, (metre, bond, back) in enumerate(theirs):
+            said = first_beyond(metres[mine[k][0]], metres[metre])
+            if said is not None:
+                faults.append(("metre", n, k, said))
+            for j in range(k):
+                if bond is not None and theirs[j][1] == bond and not bound_rows(mine, k, j):
+                    faults.append(("rhyme", n, k, j))
+            if back is not None and not same_rows(mine, k, back):
+                faults.append(("again", n, k, back))
+    return faults
+
+
 def some_table(chance):
     """A small table, by a told source of chance."""
     table = []
@@ -199,3 +296,29 @@ def some_metre_of(chance, marks):
         slots.append((tuple(sorted({"".join(marks[:many]), chance.choice(("u", "-x", "x"))})), chance.random() < 0.2))
         marks = marks[many:]
     return tuple(slots)
+
+
+def some_form(chance, known, most):
+    """The texts of a form's parts, at most so many of these rows and returns, by a told source of chance."""
+    while True:
+        parts = chance.choices(known, k=chance.randint(1, most))
+        if chance.random() < 0.7:
+            start = chance.randint(0, len(parts) - 1)
+            behind = chance.randint(start + 1, len(parts))
+            low = chance.randint(0, 4)
+            ending = f") {low} {chance.randint(max(1, low), 4)}"
+            parts = parts[:start] + ["("] + parts[start:behind] + [ending] + parts[behind:]
+        try:
+            read_form("; ".join(parts))
+        except NoForm:
+            continue
+        return parts
+
+
+def desk_of(rows):
+    """A desk that was told these rows, each answered with ok."""
+    desk = Desk()
+    for row in rows:
+        if desk.say(row) != "ok":
+            raise AssertionError(row)
+    return desk

@@ -3,8 +3,8 @@
 import random
 import unittest
 
-from lilt.errors import NoForm
 from lilt.forms import plain_rows, read_form, times_of
+from plain import some_form
 
 
 def rows_of(text, times):
@@ -123,23 +123,11 @@ class AgainstTheWords(unittest.TestCase):
 
     def test_by_chance(self):
         chance = random.Random(27)
-        met = 0
-        for number in range(3000):
-            parts = ["hex a"] + chance.choices(self.PARTS, k=chance.randint(0, 7))
-            if chance.random() < 0.7:
-                start = chance.randint(0, len(parts) - 1)
-                behind = chance.randint(start + 1, len(parts))
-                low = chance.randint(0, 4)
-                ending = f") {low} {chance.randint(max(1, low), 4)}"
-                parts = parts[:start] + ["("] + parts[start:behind] + [ending] + parts[behind:]
-            try:
-                form = read_form("; ".join(parts))
-            except NoForm:
-                continue
-            met = met + 1
+        for number in range(1000):
+            parts = some_form(chance, self.PARTS, 8)
+            form = read_form("; ".join(parts))
             for times in times_of(form):
                 self.assertEqual(plain_rows(form, times), plainly(parts, times))
-        self.assertGreater(met, 500)
 
 
 class Own(unittest.TestCase):
